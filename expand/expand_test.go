@@ -360,6 +360,8 @@ func TestP8_1Known(t *testing.T) {
 		{"FREQ=DAILY;UNTIL=20260102T235959", "20260101T000000", "20270101T000000", "20260101T000000 20260102T000000"},
 		{"FREQ=DAILY;UNTIL=20260103T000000", "20260101T000000", "20260103T000000", "20260101T000000 20260102T000000"},
 		{"FREQ=SECONDLY;UNTIL=20260101T000002", "20260101T000000", "20360101T000000", "20260101T000000 20260101T000001 20260101T000002"},
+		{"FREQ=DAILY;UNTIL=19700101T000000", "19691231T000000", "19710101T000000", "19691231T000000 19700101T000000"},
+		{"FREQ=DAILY;UNTIL=19691231T235959", "19691231T000000", "19710101T000000", "19691231T000000"},
 		// Nothing lies between them.
 		{"FREQ=SECONDLY", "20260101T000000", "20260101T000000", ""},
 		{"FREQ=SECONDLY", "20260101T000000", "20251231T235959", ""},
@@ -451,6 +453,34 @@ func TestP8_1Bounds(t *testing.T) {
 		if len(all) != c.size || e != c.want || n != c.size || f != c.want {
 			t.Errorf("case %d: List %d moments, %d, Count %d, %d, not %d, %d", i, len(all), e, n, f, c.size, c.want)
 		}
+	}
+}
+
+// Of a year of more than 100000 none has a place, of just as many each has;
+// without places they are as others are.
+func TestP8_1P8_2Full(t *testing.T) {
+	start, end := at(t, "20240101T000000"), at(t, "20260101T000000")
+	const hours, yearly = "0,1,2,3,4,5,6,7,8,9,10,11,12,13,14,15,16,17,18,19", "FREQ=YEARLY;BYMONTHDAY="
+	for _, c := range []struct{ rule, want string }{
+		// 100000 a year.
+		{yearly + each(1, 10, 1) + ";BYMONTH=" + each(1, 10, 1) + ";BYHOUR=" + hours + ";BYMINUTE=" + each(0, 49, 1) + ";BYSETPOS=-2,1", "20240101T000000 20241010T194800 20250101T000000 20251010T194800"},
+		// 99936 a year, of a leap year 100224.
+		{yearly + each(1, 29, 1) + ";BYHOUR=" + hours + ",20,21,22,23;BYMINUTE=" + each(0, 11, 1) + ";BYSETPOS=-1,1", "20250101T000000 20251229T231100"},
+		{yearly + each(1, 30, 1) + ";BYHOUR=" + hours + ",20,21,22,23;BYMINUTE=" + each(0, 11, 1) + ";BYSETPOS=-1,1", ""},
+	} {
+		r, want := read(t, c.rule), atAll(t, c.want)
+		holdList(t, r, start, end, want)
+		for _, after := range append([]int{start - 1, start, end - 1}, want...) {
+			holdNext(t, r, start, after, end, want)
+		}
+		r.Pos = nil
+		if all, e := List(r, start, end, api.MaxOcc); len(all) > 0 || e != api.ErrMany {
+			t.Errorf("List of %s: %d moments, %d", told(r), len(all), e)
+		}
+		holdList(t, r, start, start+3*60, []int{start, start + 60, start + 120})
+		holdNext(t, r, start, start+60, end, []int{start, start + 60, start + 120})
+		r.Count = 2
+		holdList(t, r, start, end, []int{start, start + 60})
 	}
 }
 
